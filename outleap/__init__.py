@@ -1,0 +1,1 @@
+"""Repeated reflection around a convex polygon."""

@@ -1,0 +1,31 @@
+"""Exact arithmetic that several modules need."""
+
+
+def is_whole(value):
+    """Return whether a value is an integer; True and False are none."""
+    return isinstance(value, int) and not isinstance(value, bool)
+
+
+def greatest_divisor(first, second):
+    """Return the greatest common divisor, which is never negative."""
+    a = abs(first)
+    b = abs(second)
+    while b != 0:
+        a, b = b, a % b
+    return a
+
+
+def cross(first, second):
+    """Return the cross product of two vectors."""
+    return first[0] * second[1] - first[1] * second[0]
+
+
+def side_of_line(start, end, point):
+    """Return a positive number if a point (x, y, d) is to the left of the line from start to end.
+
+    The number is negative to the right of the line, and 0 on it.
+    """
+    x, y, d = point
+    direction = (end[0] - start[0], end[1] - start[1])
+    # Multiplied by d, which is positive, all numbers are integers and the sign is the same.
+    return cross(direction, (x - d * start[0], y - d * start[1]))
