@@ -20,6 +20,16 @@ def cross(first, second):
     return first[0] * second[1] - first[1] * second[0]
 
 
+def edges_of(corners):
+    """Return the list of pairs (start, end) of the edges, for a list of corners; edge i starts at corner i."""
+    return list(zip(corners, corners[1:] + corners[:1]))
+
+
+def pair_shift(first, second):
+    """Return the translation that a reflection through first and then one through second amount to."""
+    return (2 * (second[0] - first[0]), 2 * (second[1] - first[1]))
+
+
 def side_of_line(start, end, point):
     """Return a positive number if a point (x, y, d) is to the left of the line from start to end.
 

@@ -1,6 +1,6 @@
 """Points with rational coordinates, and where they lie."""
 
-from outleap.arithmetic import greatest_divisor, is_whole, side_of_line
+from outleap.arithmetic import edges_of, greatest_divisor, is_whole, side_of_line
 from outleap.errors import InvalidPoint
 
 LARGEST_DENOMINATOR = 10 ** 6
@@ -25,6 +25,4 @@ def is_outside(polygon, point):
     """Return whether a point lies outside the polygon and not on its boundary."""
     if not is_point(point):
         raise InvalidPoint(point)
-    starts = polygon.vertices()
-    ends = starts[1:] + starts[:1]
-    return any([side_of_line(start, end, point) < 0 for start, end in zip(starts, ends)])
+    return any([side_of_line(start, end, point) < 0 for start, end in edges_of(polygon.vertices())])

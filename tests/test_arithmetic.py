@@ -1,7 +1,7 @@
 import math
 import unittest
 
-from outleap.arithmetic import cross, greatest_divisor, is_whole, side_of_line
+from outleap.arithmetic import cross, edges_of, greatest_divisor, is_whole, pair_shift, side_of_line
 
 
 class ArithmeticTest(unittest.TestCase):
@@ -27,3 +27,11 @@ class ArithmeticTest(unittest.TestCase):
         self.assertGreater(side_of_line((1, 1), (3, 2), (5, 4, 2)), 0)
         self.assertEqual(side_of_line((1, 1), (3, 2), (4, 3, 2)), 0)
         self.assertLess(side_of_line((1, 1), (3, 2), (5, 3, 2)), 0)
+
+    def test_edges_of(self):
+        corners = [(0, 0), (1, 0), (0, 1)]
+        self.assertEqual(edges_of(corners), [((0, 0), (1, 0)), ((1, 0), (0, 1)), ((0, 1), (0, 0))])
+        self.assertEqual(corners, [(0, 0), (1, 0), (0, 1)])
+
+    def test_pair_shift(self):
+        self.assertEqual(pair_shift((1, 5), (4, 3)), (6, -4))

@@ -8,10 +8,8 @@ from outleap import points
 from outleap.errors import InvalidPoint
 from outleap.points import is_outside, is_point
 from outleap.polygons import Polygon
-from tests.values import OTHER_VALUES, SQUARE, TRIANGLE
+from tests.values import FAR, FINE, OTHER_VALUES, SQUARE, TRIANGLE
 
-FAR = 10 ** 40
-FINE = 10 ** 6
 HEXAGON = Polygon([(-3, -1), (0, -3), (3, -2), (4, 1), (1, 3), (-2, 2)])
 
 BEYOND_BOUNDS = [

@@ -4,6 +4,7 @@ import unittest
 
 from outleap.errors import InvalidPolygon
 from outleap.polygons import Polygon
+from tests.oracle import hull
 from tests.values import OTHER_VALUES, SQUARE, TRIANGLE, rotations
 
 # Each in the order that vertices() promises.
@@ -30,19 +31,6 @@ def turn(a, b, c):
 
 def turns(vertices):
     return [turn(*(list(vertices) * 2)[at:at + 3]) for at in range(len(vertices))]
-
-
-def hull(vertices):
-    """The corners of the convex hull, counterclockwise from the smallest (monotone chain)."""
-    def half(points):
-        chain = []
-        for point in points:
-            while len(chain) >= 2 and turn(chain[-2], chain[-1], point) <= 0:
-                chain.pop()
-            chain.append(point)
-        return chain[:-1]
-    ordered = sorted(set(vertices))
-    return half(ordered) + half(ordered[::-1])
 
 
 class PolygonTestCase(unittest.TestCase):

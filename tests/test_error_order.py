@@ -1,0 +1,107 @@
+"""Which error is raised where several apply."""
+
+import unittest
+
+from outleap import errors, orbits, reflections, segments
+from tests.test_points import NO_POINTS
+from tests.values import FAR, MODULUS_4100, MODULUS_HUGE, SQUARE
+
+WRONG = "wrong"
+INSIDE = (1, 1, 2)
+ON_BOUNDARY = (0, 1, 2)
+OUTSIDE = (2001, 1, 7)
+# The forward orbit ends at once around the square and around the polygon with the modulus 4100.
+ENDING = (-2000, 0, 1)
+
+# For each function with one point: the module, its name, valid other arguments, and invalid ones.
+ONE_POINT = [
+    (reflections, "tangent_vertex", (), ()),
+    (reflections, "reflect", (), ()),
+    (reflections, "reflect_back", (), ()),
+    (reflections, "trace", (3,), (3,)),
+    (segments, "segments_of", (3,), (WRONG,)),
+    (orbits, "point_after", (3,), (WRONG,)),
+    (orbits, "period_of", (), ()),
+    (orbits, "dead_ends", (), ()),
+]
+TWO_POINTS = [
+    (orbits, "steps_between", (), ()),
+]
+# Functions that check a count, as (module, name, wrong other arguments, the value that is reported).
+COUNTS = [
+    (segments, "segments_of", (201,), 201),
+    (orbits, "point_after", (FAR + 1,), FAR + 1),
+    (orbits, "point_after", (True,), True),
+]
+# Functions that check the modulus, with valid other arguments.
+MODULI = [
+    (orbits, "point_after", (0,)),
+    (orbits, "point_after", (1,)),
+    (orbits, "point_after", (-1,)),
+    (orbits, "period_of", ()),
+    (orbits, "dead_ends", ()),
+    (orbits, "steps_between", (ENDING,)),
+]
+
+
+class ErrorOrderTest(unittest.TestCase):
+    def assert_raises(self, name, value, module, function, polygon, *given):
+        with self.subTest(f"{function} {given!r:.80}"):
+            with self.assertRaises(getattr(errors, name)) as caught:
+                getattr(module, function)(polygon, *given)
+            self.assertIs(type(caught.exception), getattr(errors, name))
+            (found,) = vars(caught.exception).values()
+            self.assertEqual(found, value)
+            self.assertIs(type(found), type(value))
+
+    def test_an_invalid_point_comes_first(self):
+        for module, function, valid, wrong in ONE_POINT:
+            for polygon in (SQUARE, MODULUS_HUGE):
+                for value in NO_POINTS:
+                    self.assert_raises("InvalidPoint", value, module, function, polygon, value, *valid)
+                    self.assert_raises("InvalidPoint", value, module, function, polygon, value, *wrong)
+
+    def test_a_point_that_is_not_outside_comes_next(self):
+        for module, function, valid, wrong in ONE_POINT:
+            for point in (INSIDE, ON_BOUNDARY, (0, 0, 1)):
+                for polygon in (SQUARE, MODULUS_4100):
+                    self.assert_raises("NotOutside", point, module, function, polygon, point, *valid)
+                    self.assert_raises("NotOutside", point, module, function, polygon, point, *wrong)
+
+    def test_the_first_point_comes_before_the_second(self):
+        for module, function, valid, wrong in TWO_POINTS:
+            for rest in (valid, wrong):
+                for polygon in (SQUARE, MODULUS_4100):
+                    for second in (WRONG, INSIDE, OUTSIDE):
+                        for first in ((2, 0, 2), WRONG, None, (1, 1), True):
+                            self.assert_raises("InvalidPoint", first, module, function, polygon, first, second, *rest)
+                        self.assert_raises(
+                            "NotOutside", ON_BOUNDARY, module, function, polygon, ON_BOUNDARY, second, *rest)
+
+    def test_the_second_point_comes_next(self):
+        for module, function, valid, wrong in TWO_POINTS:
+            for rest in (valid, wrong):
+                for polygon in (SQUARE, MODULUS_4100):
+                    for first in (OUTSIDE, ENDING):
+                        for second in NO_POINTS:
+                            self.assert_raises(
+                                "InvalidPoint", second, module, function, polygon, first, second, *rest)
+                        self.assert_raises("NotOutside", INSIDE, module, function, polygon, first, INSIDE, *rest)
+
+    def test_a_count_comes_before_the_modulus_and_the_end(self):
+        for module, function, given, value in COUNTS:
+            for polygon in (SQUARE, MODULUS_4100, MODULUS_HUGE):
+                for point in (OUTSIDE, ENDING):
+                    self.assert_raises("InvalidCount", value, module, function, polygon, point, *given)
+
+    def test_the_modulus_comes_before_the_end(self):
+        for module, function, given in MODULI:
+            for point in (OUTSIDE, ENDING):
+                self.assert_raises("ModulusTooLarge", 4100, module, function, MODULUS_4100, point, *given)
+
+    def test_the_end_comes_last(self):
+        self.assert_raises("Undefined", 0, orbits, "point_after", SQUARE, ENDING, 1)
+        for function, *given in (("tangent_vertex",), ("reflect",), ("trace", 3)):
+            self.assert_raises("Undefined", 0, reflections, function, SQUARE, ENDING, *given)
+            self.assert_raises("Undefined", 0, reflections, function, MODULUS_4100, ENDING, *given)
+        self.assert_raises("Undefined", 0, reflections, "reflect_back", SQUARE, (2000, 0, 1))
