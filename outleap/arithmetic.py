@@ -39,3 +39,45 @@ def side_of_line(start, end, point):
     direction = (end[0] - start[0], end[1] - start[1])
     # Multiplied by d, which is positive, all numbers are integers and the sign is the same.
     return cross(direction, (x - d * start[0], y - d * start[1]))
+
+
+def fraction(n, d):
+    """Return n / d as a fraction in lowest terms; d is not 0."""
+    size = greatest_divisor(n, d)
+    if d < 0:
+        size = -size
+    return (n // size, d // size)
+
+
+def is_below(first, second):
+    """Return whether a fraction is less than another one; their denominators are positive."""
+    return first[0] * second[1] < second[0] * first[1]
+
+
+def lowest_terms(x, y, d):
+    """Return the point (x / d, y / d) in lowest terms; d is positive."""
+    size = greatest_divisor(greatest_divisor(x, y), d)
+    return (x // size, y // size, d // size)
+
+
+def inverse_factor(factor, size):
+    """Return the number from 0 to size - 1 whose product with the factor leaves the remainder 1.
+
+    The factor and the size, which is positive, have no common divisor.
+    """
+    rest, divisor = factor % size, size
+    found, other = 1, 0
+    while divisor != 0:
+        times = rest // divisor
+        rest, divisor = divisor, rest - times * divisor
+        found, other = other, found - times * other
+    return found % size
+
+
+def least_multiplier(factor, goal, size):
+    """Return the least number from 0 on whose product with the factor leaves the remainder of the goal, or None."""
+    common = greatest_divisor(factor, size)
+    if goal % common != 0:
+        return None
+    reduced = size // common
+    return goal // common * inverse_factor(factor // common, reduced) % reduced

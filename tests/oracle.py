@@ -172,3 +172,70 @@ def directions(polygon):
         found.add((x, y) if (y, x) > (0, 0) else (-x, -y))
     level = sorted(direction for direction in found if direction[1] == 0)
     return level + sorted(found - set(level), key=lambda vector: Fraction(-vector[0], vector[1]))
+
+
+BOX = 10 ** 12
+
+
+def clipped(places, condition):
+    """The part of a convex polygon in which the linear condition is not negative."""
+    values = [condition(place) for place in places]
+    if min(values, default=0) >= 0:
+        return places
+    found = []
+    for at, (x, y) in enumerate(places):
+        (before_x, before_y), before, value = places[at - 1], values[at - 1], values[at]
+        if before * value < 0:
+            share = Fraction(before) / (before - value)
+            found.append((before_x + share * (x - before_x), before_y + share * (y - before_y)))
+        if value >= 0:
+            found.append((x, y))
+    return found
+
+
+def region(polygon, word):
+    """The closure of the region of a word within a huge box, as a list of corners; empty if it has no inside."""
+    corners = polygon.vertices()
+    places = [(-BOX, -BOX), (BOX, -BOX), (BOX, BOX), (-BOX, BOX)]
+    sign, x, y = 1, 0, 0
+    for vertex in word:
+        a, b = corners[vertex]
+        for c, e in corners[:vertex] + corners[vertex + 1:]:
+            def is_left(place):
+                return cross((a - x - sign * place[0], b - y - sign * place[1]), (c - a, e - b))
+            places = clipped(places, is_left)
+        sign, x, y = -sign, 2 * a - x, 2 * b - y
+    places = without_straight_corners(places)
+    return places if len(places) > 2 else []
+
+
+def without_straight_corners(places):
+    places = [place for at, place in enumerate(places) if place != places[at - 1]]
+    found = []
+    for at, (x, y) in enumerate(places):
+        (a, b), (c, e) = places[at - 1], places[(at + 1) % len(places)]
+        if cross((x - a, y - b), (c - x, e - y)) != 0:
+            found.append((x, y))
+    return found
+
+
+def bounds_of_region(polygon, places):
+    """(e, low, high) for each direction, or None for an empty region; what reaches far out is not finite."""
+    if not places:
+        return None
+    rows = []
+    for turn in directions(polygon):
+        values = [cross(turn, place) for place in places]
+        ends = [fraction(end) if abs(end) < BOX // 1000 else None for end in (min(values), max(values))]
+        rows.append((turn, *ends))
+    return rows
+
+
+def as_point(place):
+    x, y = Fraction(place[0]), Fraction(place[1])
+    return lowest(x.numerator * y.denominator, y.numerator * x.denominator, x.denominator * y.denominator)
+
+
+def area_of(places):
+    total = sum(cross(place, places[at - 1]) for at, place in enumerate(places))
+    return fraction(Fraction(-total, 2))

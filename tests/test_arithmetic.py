@@ -1,7 +1,11 @@
+import itertools
 import math
 import unittest
+from fractions import Fraction
 
-from outleap.arithmetic import cross, edges_of, greatest_divisor, is_whole, pair_shift, side_of_line
+from outleap.arithmetic import (
+    cross, edges_of, fraction, greatest_divisor, inverse_factor, is_below, is_whole, least_multiplier, lowest_terms,
+    pair_shift, side_of_line)
 
 
 class ArithmeticTest(unittest.TestCase):
@@ -35,3 +39,32 @@ class ArithmeticTest(unittest.TestCase):
 
     def test_pair_shift(self):
         self.assertEqual(pair_shift((1, 5), (4, 3)), (6, -4))
+
+    def test_fraction(self):
+        for n, d in itertools.product(range(-12, 13), repeat=2):
+            if d != 0:
+                expected = Fraction(n, d)
+                self.assertEqual(fraction(n, d), (expected.numerator, expected.denominator))
+
+    def test_is_below(self):
+        for n, k in itertools.product(range(-5, 6), repeat=2):
+            for d, m in itertools.product(range(1, 4), repeat=2):
+                self.assertIs(is_below((n, d), (k, m)), Fraction(n, d) < Fraction(k, m))
+
+    def test_lowest_terms(self):
+        self.assertEqual(lowest_terms(6, -10, 4), (3, -5, 2))
+        self.assertEqual(lowest_terms(0, 0, 4), (0, 0, 1))
+        self.assertEqual(lowest_terms(0, 3, 4), (0, 3, 4))
+
+    def test_inverse_factor(self):
+        for size in range(1, 30):
+            for factor in range(-40, 41):
+                if math.gcd(factor, size) == 1:
+                    found = inverse_factor(factor, size)
+                    self.assertIn(found, range(size))
+                    self.assertEqual(found * factor % size, 1 % size)
+
+    def test_least_multiplier(self):
+        for size, factor, goal in itertools.product(range(1, 16), range(-17, 18), range(-3, 18)):
+            expected = [times for times in range(size) if (times * factor - goal) % size == 0]
+            self.assertEqual(least_multiplier(factor, goal, size), min(expected, default=None))

@@ -2,7 +2,7 @@
 
 import unittest
 
-from outleap import errors, orbits, reflections, segments
+from outleap import cells, errors, orbit_stats, orbits, reflections, segments, words
 from tests.test_points import NO_POINTS
 from tests.values import FAR, MODULUS_4100, MODULUS_HUGE, SQUARE
 
@@ -23,15 +23,30 @@ ONE_POINT = [
     (orbits, "point_after", (3,), (WRONG,)),
     (orbits, "period_of", (), ()),
     (orbits, "dead_ends", (), ()),
+    (orbit_stats, "vertex_counts", (3,), (WRONG,)),
+    (orbit_stats, "furthest", (1, 2), (WRONG, None)),
+    (cells, "cell_bounds", (), ()),
+    (cells, "cell_vertices", (), ()),
+    (cells, "cell_area", (), ()),
+    (cells, "cell_period", (), ()),
+    (cells, "cell_center", (), ()),
+    (words, "itinerary", (3,), (3,)),
 ]
 TWO_POINTS = [
     (orbits, "steps_between", (), ()),
+    (orbit_stats, "meeting_time", (1, 2), (WRONG, 1001)),
+    (cells, "same_cell", (), ()),
 ]
 # Functions that check a count, as (module, name, wrong other arguments, the value that is reported).
 COUNTS = [
     (segments, "segments_of", (201,), 201),
     (orbits, "point_after", (FAR + 1,), FAR + 1),
     (orbits, "point_after", (True,), True),
+    (orbit_stats, "vertex_counts", (-1,), -1),
+    (orbit_stats, "vertex_counts", (False,), False),
+    (orbit_stats, "meeting_time", (OUTSIDE, 1001, WRONG), 1001),
+    (orbit_stats, "meeting_time", (OUTSIDE, WRONG, 1001), WRONG),
+    (orbit_stats, "meeting_time", (OUTSIDE, 1000, -1001), -1001),
 ]
 # Functions that check the modulus, with valid other arguments.
 MODULI = [
@@ -41,6 +56,17 @@ MODULI = [
     (orbits, "period_of", ()),
     (orbits, "dead_ends", ()),
     (orbits, "steps_between", (ENDING,)),
+    (orbit_stats, "vertex_counts", (0,)),
+    (orbit_stats, "vertex_counts", (1,)),
+    (orbit_stats, "furthest", (0, 0)),
+    (orbit_stats, "furthest", (WRONG, None)),
+    (orbit_stats, "meeting_time", (ENDING, 0, 0)),
+    (cells, "cell_bounds", ()),
+    (cells, "cell_vertices", ()),
+    (cells, "cell_area", ()),
+    (cells, "cell_period", ()),
+    (cells, "cell_center", ()),
+    (cells, "same_cell", (ENDING,)),
 ]
 
 
@@ -99,8 +125,22 @@ class ErrorOrderTest(unittest.TestCase):
             for point in (OUTSIDE, ENDING):
                 self.assert_raises("ModulusTooLarge", 4100, module, function, MODULUS_4100, point, *given)
 
+    def test_coefficients_come_last(self):
+        for point in (OUTSIDE, ENDING):
+            self.assert_raises("InvalidCoefficient", WRONG, orbit_stats, "furthest", SQUARE, point, WRONG, None)
+            self.assert_raises("InvalidCoefficient", None, orbit_stats, "furthest", SQUARE, point, 1, None)
+
+    def test_not_periodic_comes_last(self):
+        for function in ("cell_bounds", "cell_vertices", "cell_area", "cell_period", "cell_center"):
+            self.assert_raises("NotPeriodic", ENDING, cells, function, SQUARE, ENDING)
+        for other in (OUTSIDE, ENDING, (2000, 0, 1)):
+            self.assert_raises("NotPeriodic", ENDING, cells, "same_cell", SQUARE, ENDING, other)
+
     def test_the_end_comes_last(self):
         self.assert_raises("Undefined", 0, orbits, "point_after", SQUARE, ENDING, 1)
+        self.assert_raises("Undefined", 0, orbit_stats, "vertex_counts", SQUARE, ENDING, 1)
+        self.assert_raises("Undefined", 0, words, "itinerary", SQUARE, ENDING, 1)
+        self.assert_raises("Undefined", 0, words, "itinerary", MODULUS_4100, ENDING, 1)
         for function, *given in (("tangent_vertex",), ("reflect",), ("trace", 3)):
             self.assert_raises("Undefined", 0, reflections, function, SQUARE, ENDING, *given)
             self.assert_raises("Undefined", 0, reflections, function, MODULUS_4100, ENDING, *given)

@@ -6,19 +6,10 @@ from outleap.errors import InvalidCount, ModulusTooLarge, Undefined
 from outleap.orbits import dead_ends, period_of, point_after, steps_between
 from outleap.reflections import reflect, reflect_back
 from tests import oracle
+from tests.nearby import NEAR
 from tests.values import (
     FAR, FINE, KITE, MODULUS_4096, MODULUS_4100, MODULUS_4100_TOO, MODULUS_HUGE, NO_INTEGERS, POLYGONS, SQUARE,
     TRIANGLE)
-
-
-def some_orbits(reach=7, step=2):
-    """(polygon, point, closed, before, vertices, points) for orbits near the polygons."""
-    for polygon in POLYGONS:
-        for point in oracle.points_around(polygon, reach, (1, 2, 3), step):
-            yield polygon, point, *oracle.whole(polygon, point)
-
-
-NEAR = list(some_orbits())
 
 
 class OrbitTestCase(unittest.TestCase):
@@ -27,6 +18,8 @@ class OrbitTestCase(unittest.TestCase):
             point_after(polygon, point, wanted)
         self.assertEqual(caught.exception.steps, steps)
 
+
+class NearbyTest(unittest.TestCase):
     def test_orbits_of_all_kinds_are_tested(self):
         found = {(closed, len(used) % 2) for polygon, point, closed, before, used, points in NEAR}
         self.assertEqual(found, {(True, 0), (True, 1), (False, 0), (False, 1)})
