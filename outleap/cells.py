@@ -51,11 +51,16 @@ def half_length(polygon, course):
 
 
 def crossing(first, second):
-    """Return the point at which two lines cross, each given as its direction and its cross product with that."""
-    (a, b), (n, m) = first
-    (c, e), (k, j) = second
-    d = cross((a, b), (c, e)) * m * j
-    return lowest_terms(n * j * c - k * m * a, n * j * e - k * m * b, d)
+    """Return the point at which two lines cross.
+
+    A line is given as its direction and the cross product of this with its points, as a fraction; the second
+    direction is to the left of the first one.
+    """
+    e, (n, d) = first
+    f, (k, m) = second
+    x = n * m * f[0] - k * d * e[0]
+    y = n * m * f[1] - k * d * e[1]
+    return lowest_terms(x, y, cross(e, f) * d * m)
 
 
 def corners_within(bounds):

@@ -18,8 +18,8 @@ def edge_sides(corners, turns):
 def upper_bounds(turns, at, lows, highs):
     """Return all upper bounds, as fractions, that one or two of the lines set for the direction number at.
 
-    With highs and lows exchanged, the result is all lower bounds. The least of them is tight, since an optimum over a
-    convex polygon is decided by at most two of its edges.
+    The least of these bounds is tight, since at most two edges of a convex polygon decide how far it reaches in a
+    direction. With highs and lows exchanged, the result is all lower bounds.
     """
     found = []
     if highs[at] is not None:
@@ -37,20 +37,11 @@ def upper_bounds(turns, at, lows, highs):
     return found
 
 
-def least(fractions):
-    """Return the least fraction of a list, or None if there is none."""
+def outermost(fractions, sign):
+    """Return the greatest fraction of a list if the sign is 1, the least one if it is -1, or None if there is none."""
     found = None
     for one in fractions:
-        if found is None or is_below(one, found):
-            found = one
-    return found
-
-
-def greatest(fractions):
-    """Return the greatest fraction of a list, or None if there is none."""
-    found = None
-    for one in fractions:
-        if found is None or is_below(found, one):
+        if found is None or sign * (one[0] * found[1] - found[0] * one[1]) > 0:
             found = one
     return found
 
@@ -94,8 +85,8 @@ class Strips:
         """Return the list of (direction, infimum, supremum) over the set, or None if it is empty."""
         rows = []
         for at, turn in enumerate(self.turns):
-            low = greatest(upper_bounds(self.turns, at, self.highs, self.lows))
-            high = least(upper_bounds(self.turns, at, self.lows, self.highs))
+            low = outermost(upper_bounds(self.turns, at, self.highs, self.lows), 1)
+            high = outermost(upper_bounds(self.turns, at, self.lows, self.highs), -1)
             # If lines exclude all points, then three of them do, and two of these contradict the third one.
             if low is not None and high is not None and not is_below(low, high):
                 return None
