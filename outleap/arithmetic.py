@@ -56,8 +56,18 @@ def is_below(first, second):
 
 def lowest_terms(x, y, d):
     """Return the point (x / d, y / d) in lowest terms; d is positive."""
-    size = greatest_divisor(greatest_divisor(x, y), d)
+    # Beginning with d, which is small, keeps the numbers small.
+    size = greatest_divisor(greatest_divisor(d, x), y)
     return (x // size, y // size, d // size)
+
+
+def signed_area(places):
+    """Return the area within a closed path of points (x, y, d) as a fraction; it is negative if it runs clockwise."""
+    area = (0, 1)
+    for (x, y, d), (k, j, m) in edges_of(places):
+        part = cross((x, y), (k, j))
+        area = fraction(area[0] * 2 * d * m + part * area[1], area[1] * 2 * d * m)
+    return area
 
 
 def inverse_factor(factor, size):

@@ -1,6 +1,6 @@
 """Cells: the points that use the same vertices for ever."""
 
-from outleap.arithmetic import cross, edges_of, fraction, is_below, lowest_terms, pair_shift
+from outleap.arithmetic import cross, edges_of, is_below, lowest_terms, pair_shift, signed_area
 from outleap.checks import require_modulus, require_outside
 from outleap.courses import Course
 from outleap.errors import NotPeriodic
@@ -63,8 +63,24 @@ def crossing(first, second):
     return lowest_terms(x, y, cross(e, f) * d * m)
 
 
+def is_smaller(first, second):
+    """Return whether a point is smaller than another one, by x and then by y."""
+    x, y, d = first
+    k, j, m = second
+    return (x * m, y * m) < (k * d, j * d)
+
+
+def from_smallest(corners):
+    """Return the corners in the same cyclic order, from the smallest one on."""
+    start = 0
+    for at in range(len(corners)):
+        if is_smaller(corners[at], corners[start]):
+            start = at
+    return corners[start:] + corners[:start]
+
+
 def corners_within(bounds):
-    """Return the corners of a cell, counterclockwise."""
+    """Return the corners of a cell, counterclockwise from the smallest one."""
     lines = [(e, low) for e, low, high in bounds]
     lines += [((-e[0], -e[1]), (-high[0], high[1])) for e, low, high in bounds]
     # The lines are sorted by angle and each touches the cell, so neighbours meet at a corner.
@@ -73,14 +89,7 @@ def corners_within(bounds):
         corner = crossing(line, after)
         if corner not in found:
             found.append(corner)
-    return found
-
-
-def is_smaller(first, second):
-    """Return whether a point is smaller than another one, by x and then by y."""
-    x, y, d = first
-    k, j, m = second
-    return (x * m, y * m) < (k * d, j * d)
+    return from_smallest(found)
 
 
 def cell_bounds(polygon, point):
@@ -91,21 +100,12 @@ def cell_bounds(polygon, point):
 
 def cell_vertices(polygon, point):
     """Return the list of the corners of the cell, counterclockwise from the smallest one."""
-    corners = corners_within(cell_bounds(polygon, point))
-    start = 0
-    for at in range(len(corners)):
-        if is_smaller(corners[at], corners[start]):
-            start = at
-    return corners[start:] + corners[:start]
+    return corners_within(cell_bounds(polygon, point))
 
 
 def cell_area(polygon, point):
     """Return the area of the cell as a fraction."""
-    area = (0, 1)
-    for (x, y, d), (k, j, m) in edges_of(corners_within(cell_bounds(polygon, point))):
-        part = cross((x, y), (k, j))
-        area = fraction(area[0] * 2 * d * m + part * area[1], area[1] * 2 * d * m)
-    return area
+    return signed_area(corners_within(cell_bounds(polygon, point)))
 
 
 def same_cell(polygon, point, other):

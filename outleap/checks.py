@@ -1,7 +1,7 @@
 """Checks of arguments that several modules share."""
 
 from outleap.arithmetic import is_whole
-from outleap.errors import InvalidCount, ModulusTooLarge, NotOutside
+from outleap.errors import InvalidCount, InvalidRing, ModulusTooLarge, NotOutside
 from outleap.modulus import modulus
 from outleap.points import is_outside
 
@@ -26,3 +26,9 @@ def require_modulus(polygon):
     size = modulus(polygon)
     if size > LARGEST_MODULUS:
         raise ModulusTooLarge(size)
+
+
+def require_index(value):
+    """Raise InvalidRing unless the value is the index of a ring."""
+    if not is_whole(value) or value < 1:
+        raise InvalidRing(value)

@@ -44,13 +44,18 @@ def far_shifts(polygon):
     return rows
 
 
+def sector_widths(polygon):
+    """Return the list of pairs (w_i, w_(i + 1)); a width is the cross product of a direction and a far shift."""
+    widths = []
+    for (start, end), (near, far, shift) in zip(sectors(polygon), far_shifts(polygon)):
+        widths.append(abs(cross(start, shift)))
+    return edges_of(widths)
+
+
 def modulus(polygon):
     """Return the modulus, however large it is."""
-    pairs = sectors(polygon)
-    shifts = [shift for near, far, shift in far_shifts(polygon)]
-    widths = [abs(cross(start, shift)) for (start, end), shift in zip(pairs, shifts)]
     found = 1
-    for (start, end), width, after in zip(pairs, widths, widths[1:] + widths[:1]):
+    for (start, end), (width, after) in zip(sectors(polygon), sector_widths(polygon)):
         product = width * after
         part = product // greatest_divisor(product, cross(start, end))
         found = found * part // greatest_divisor(found, part)

@@ -1,8 +1,10 @@
 """Which error is raised where several apply."""
 
 import unittest
+from types import SimpleNamespace
 
-from outleap import cells, errors, orbit_stats, orbits, reflections, segments, words
+from outleap import (
+    cells, errors, orbit_stats, orbits, reflections, regions, ring_check, rings, segments, words)
 from tests.test_points import NO_POINTS
 from tests.values import FAR, MODULUS_4100, MODULUS_HUGE, SQUARE
 
@@ -12,6 +14,11 @@ ON_BOUNDARY = (0, 1, 2)
 OUTSIDE = (2001, 1, 7)
 # The forward orbit ends at once around the square and around the polygon with the modulus 4100.
 ENDING = (-2000, 0, 1)
+
+# Functions whose point is the last argument, with the point before the other ones.
+POINT_LAST = SimpleNamespace(
+    ring_contains=lambda polygon, point, index: rings.ring_contains(polygon, index, point),
+    region_contains=lambda polygon, point, index: regions.region_contains(polygon, index, point))
 
 # For each function with one point: the module, its name, valid other arguments, and invalid ones.
 ONE_POINT = [
@@ -31,6 +38,10 @@ ONE_POINT = [
     (cells, "cell_period", (), ()),
     (cells, "cell_center", (), ()),
     (words, "itinerary", (3,), (3,)),
+    (rings, "ring_index", (), ()),
+    (POINT_LAST, "ring_contains", (1,), (WRONG,)),
+    (POINT_LAST, "region_contains", (1,), (0,)),
+    (ring_check, "check_ring", ([],), (WRONG,)),
 ]
 TWO_POINTS = [
     (orbits, "steps_between", (), ()),
@@ -67,6 +78,11 @@ MODULI = [
     (cells, "cell_period", ()),
     (cells, "cell_center", ()),
     (cells, "same_cell", (ENDING,)),
+    (rings, "ring_index", ()),
+    (POINT_LAST, "ring_contains", (1,)),
+    (POINT_LAST, "ring_contains", (WRONG,)),
+    (POINT_LAST, "region_contains", (1,)),
+    (POINT_LAST, "region_contains", (0,)),
 ]
 
 
@@ -129,6 +145,20 @@ class ErrorOrderTest(unittest.TestCase):
         for point in (OUTSIDE, ENDING):
             self.assert_raises("InvalidCoefficient", WRONG, orbit_stats, "furthest", SQUARE, point, WRONG, None)
             self.assert_raises("InvalidCoefficient", None, orbit_stats, "furthest", SQUARE, point, 1, None)
+
+    def test_the_modulus_comes_before_the_index_of_a_ring(self):
+        for module, function in (
+                (rings, "ring_chain"), (rings, "ring_extent"), (regions, "region_area"), (regions, "cells_in_region")):
+            for index in (1, 0, WRONG, True, 10 ** 60):
+                self.assert_raises("ModulusTooLarge", 4100, module, function, MODULUS_4100, index)
+            for index in (0, WRONG, True, -(10 ** 60)):
+                self.assert_raises("InvalidRing", index, module, function, SQUARE, index)
+
+    def test_the_index_of_a_ring_comes_last(self):
+        for function in ("ring_contains", "region_contains"):
+            for point in (OUTSIDE, ENDING):
+                for index in (0, WRONG, False):
+                    self.assert_raises("InvalidRing", index, POINT_LAST, function, SQUARE, point, index)
 
     def test_not_periodic_comes_last(self):
         for function in ("cell_bounds", "cell_vertices", "cell_area", "cell_period", "cell_center"):

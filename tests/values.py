@@ -11,8 +11,14 @@ PENTAGON = Polygon([(-1, 2), (1, -1), (3, 1), (3, 3), (0, 3)])
 HEXAGON = Polygon([(0, 0), (1, 0), (2, 1), (2, 2), (1, 2), (0, 1)])
 SKEW_HEXAGON = Polygon([(-2, 0), (-1, -2), (2, -2), (2, 1), (1, 2), (-2, 2)])
 
+FIVE_DIRECTIONS = Polygon([(-2, 1), (-1, -1), (1, 1), (-1, 2), (-2, 2)])
+SIX_DIRECTIONS = Polygon([(-1, -1), (1, -2), (2, -2), (1, 0), (0, 1), (-1, 0)])
+
 # All with a modulus of at most 4096, with and without parallel edges.
 POLYGONS = [SQUARE, TRIANGLE, KITE, QUADRILATERAL, TRAPEZOID, PENTAGON, HEXAGON, SKEW_HEXAGON]
+
+# With two to six directions, and with moduli from 4 to 1760.
+RING_POLYGONS = POLYGONS + [FIVE_DIRECTIONS, SIX_DIRECTIONS]
 
 MODULUS_4096 = [Polygon([(0, 0), (32, 0), (32, 32), (0, 32)]), Polygon([(-3, -18), (17, -2), (-2, 34)])]
 # The least modulus of a triangle that is too large, of a parallelogram, and one far beyond.
