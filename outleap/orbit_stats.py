@@ -49,6 +49,16 @@ def ends_of_run(course, run):
     return found
 
 
+def greatest_point(polygon, place):
+    """Return the greatest point of the whole orbit; no other orbit has it.
+
+    The place is a point outside the polygon that may exceed the bounds.
+    """
+    course = Course(polygon, place)
+    # Along a straight row, points only grow, by x and then by y, or only shrink. All have the same denominator.
+    return max([point for run in course.runs for steps, point in ends_of_run(course, run)])
+
+
 def furthest(polygon, point, a, b):
     """Return the maximum of a * x + b * y over the whole orbit, and the first number of reflections where it is."""
     require_outside(polygon, point)

@@ -15,11 +15,16 @@ def ring_chain(polygon, index):
     return ring_rows(polygon, index)
 
 
+def index_of(polygon, place):
+    """Return what ring_index does, for a point outside the polygon that may exceed the bounds."""
+    require_modulus(polygon)
+    return least_index(polygon, place)
+
+
 def ring_index(polygon, point):
     """Return the least index of a ring that contains the point."""
     require_outside(polygon, point)
-    require_modulus(polygon)
-    return least_index(polygon, point)
+    return index_of(polygon, point)
 
 
 def ring_contains(polygon, index, point):

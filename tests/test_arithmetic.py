@@ -5,7 +5,7 @@ from fractions import Fraction
 
 from outleap.arithmetic import (
     cross, edges_of, fraction, greatest_divisor, inverse_factor, is_below, is_whole, least_multiplier, lowest_terms,
-    pair_shift, side_of_line)
+    pair_shift, side_of_line, signed_area)
 
 
 class ArithmeticTest(unittest.TestCase):
@@ -26,6 +26,14 @@ class ArithmeticTest(unittest.TestCase):
         self.assertEqual(cross((0, 1), (1, 0)), -1)
         self.assertEqual(cross((2, 3), (5, 7)), -1)
         self.assertEqual(cross((2, 3), (-4, -6)), 0)
+
+    def test_signed_area(self):
+        places = [(0, 0, 1), (2, 0, 1), (2, 1, 1), (0, 1, 1)]
+        self.assertEqual(signed_area(places), (2, 1))
+        self.assertEqual(signed_area(places[::-1]), (-2, 1))
+        self.assertEqual(signed_area(places[:3]), (1, 1))
+        self.assertEqual(signed_area([(1, 1, 2), (4, 1, 3), (1, 3, 2)]), (5, 12))
+        self.assertEqual(signed_area([(0, 0, 1), (1, 0, 1), (0, 0, 1), (0, 1, 1)]), (0, 1))
 
     def test_side_of_line(self):
         self.assertGreater(side_of_line((1, 1), (3, 2), (5, 4, 2)), 0)

@@ -20,7 +20,8 @@ ALLOWED_BUILTINS = set(
 ALLOWED_METHODS = set(
     "append clear copy count endswith extend find get index insert isalnum isalpha isdigit islower isspace isupper "
     "items join keys ljust lower lstrip partition pop remove replace reverse rfind rjust rpartition rsplit rstrip "
-    "setdefault split splitlines startswith strip update upper values zfill bit_length add discard sort".split())
+    "setdefault split splitlines startswith strip update upper values zfill bit_length add discard sort removeprefix "
+    "isdecimal".split())
 
 
 def defined_names(text):

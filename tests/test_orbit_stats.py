@@ -5,7 +5,7 @@ from fractions import Fraction
 
 from outleap import orbit_stats
 from outleap.errors import InvalidCoefficient, InvalidCount, ModulusTooLarge, Undefined
-from outleap.orbit_stats import furthest, meeting_time, vertex_counts
+from outleap.orbit_stats import furthest, greatest_point, meeting_time, vertex_counts
 from outleap.orbits import dead_ends, period_of, point_after, steps_between
 from tests import oracle
 from tests.nearby import NEAR
@@ -350,6 +350,21 @@ class MeetingTimeTest(unittest.TestCase):
             self.assertEqual(meeting_time(SQUARE, first, last, 1, -1), size // 2)
         else:
             self.assertIsNone(meeting_time(SQUARE, first, last, 1, -1))
+
+
+class GreatestPointTest(unittest.TestCase):
+    def test_orbits_near_the_polygons(self):
+        for polygon, point, closed, before, used, points in NEAR:
+            self.assertEqual(greatest_point(polygon, point), max(points))
+
+    def test_far_away(self):
+        for number, polygon in enumerate(POLYGONS + MODULUS_4096):
+            for point in oracle.random_points(number, polygon, 3, FAR // 1000, (1, 7)):
+                if period_of(polygon, point) is not None:
+                    found = greatest_point(polygon, point)
+                    self.assertIsNotNone(steps_between(polygon, point, found))
+                    self.assertEqual(greatest_point(polygon, point_after(polygon, point, 10 ** 39 + 1)), found)
+                    self.assertEqual(Fraction(found[0], found[2]), Fraction(*furthest(polygon, point, 1, 0)[0]))
 
 
 class InterfaceTest(unittest.TestCase):

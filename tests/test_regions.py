@@ -10,7 +10,7 @@ from outleap.errors import InvalidPoint, InvalidRing, ModulusTooLarge, NotOutsid
 from outleap.modulus import modulus
 from outleap.points import is_point
 from outleap.polygons import Polygon
-from outleap.regions import cells_in_region, region_area, region_contains
+from outleap.regions import cells_in_region, doubled_part, region_area, region_contains
 from outleap.rings import ring_contains, ring_index
 from tests import oracle, ring_oracle
 from tests.test_rings import NO_INDEXES
@@ -207,6 +207,11 @@ class RegionAreaTest(unittest.TestCase):
                         found += 1
                         self.assertEqual(region_area(polygon, index), outer_area(polygon, rows))
         self.assertGreater(found, 60)
+
+    def test_parts_of_polygons(self):
+        self.assertEqual([doubled_part(SQUARE.vertices(), 0, end) for end in (1, 2, 3)], [2, 1, 0])
+        self.assertEqual([doubled_part(KITE.vertices(), 0, end) for end in (1, 2, 3)], [24, 12, 0])
+        self.assertEqual([doubled_part(KITE.vertices(), 3, end) for end in (0, 1, 2)], [24, 8, 0])
 
     def test_great_indexes(self):
         for polygon in RING_POLYGONS + MODULUS_4096:

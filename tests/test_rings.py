@@ -1,12 +1,15 @@
+import itertools
 import unittest
 from fractions import Fraction
+from unittest import mock
 
-from outleap import rings
+from outleap import chains, rings
 from outleap.errors import InvalidPoint, InvalidRing, ModulusTooLarge, NotOutside, Undefined
 from outleap.modulus import directions, modulus
 from outleap.orbit_stats import furthest
 from outleap.polygons import Polygon
 from outleap.reflections import reflect
+from outleap.ring_check import check_ring
 from outleap.rings import ring_chain, ring_contains, ring_extent, ring_index
 from tests import oracle, ring_oracle
 from tests.values import (
@@ -174,6 +177,37 @@ class RingContainsTest(unittest.TestCase):
                 place = ring_oracle.place_of(point)
                 expected = next(index for index, path in enumerate(paths, 1) if ring_oracle.contains(path, place))
                 self.assertEqual(ring_index(polygon, point), expected)
+
+    def test_polygons_far_from_the_origin(self):
+        for polygon in (Polygon([(58, -60), (60, -59), (59, -57)]), Polygon([(-60, 59), (-59, 59), (-59, 60), (-60, 60)])):
+            left, low = polygon.vertices()[0]
+            for x, y in itertools.product(range(-20, 21, 3), repeat=2):
+                point = oracle.lowest(2 * left + x, 2 * low + y, 2)
+                if not oracle.is_inside(polygon, point):
+                    index = ring_index(polygon, point)
+                    self.assertLess(index, 20)
+                    for other in range(max(1, index - 1), index + 2):
+                        path = ring_oracle.outline(polygon, ring_oracle.rows(polygon, other))
+                        self.assertIs(ring_oracle.contains(path, ring_oracle.place_of(point)), other >= index)
+                        self.assertIs(ring_contains(polygon, other, point), other >= index)
+                        self.assertIs(check_ring(polygon, point, ring_chain(polygon, other)), other >= index)
+
+    def test_the_index_does_not_depend_on_the_estimate(self):
+        for number, polygon in enumerate(RING_POLYGONS):
+            for point in oracle.random_points(number, polygon, 4, 10 ** 6, (1, 2, 7)):
+                index = ring_index(polygon, point)
+                for other in (index - 3, index - 1, index, index + 1, index + 5):
+                    if other >= 1:
+                        with mock.patch.object(chains, "index_estimate", lambda corners, rows, point: other):
+                            self.assertEqual(ring_index(polygon, point), index)
+
+    def test_the_estimate_is_close(self):
+        # Otherwise the search from there on would never end far away.
+        for number, polygon in enumerate(RING_POLYGONS + MODULUS_4096):
+            for reach in (10, 10 ** 3, FAR):
+                for point in oracle.random_points(number, polygon, 10, reach, (1, 7)):
+                    estimate = chains.index_estimate(polygon.vertices(), chains.first_ring(polygon), point)
+                    self.assertLessEqual(abs(ring_index(polygon, point) - estimate), 1)
 
     def test_the_index_changes_by_at_most_1(self):
         for number, polygon in enumerate(RING_POLYGONS):
